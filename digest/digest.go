@@ -1,7 +1,11 @@
 // Package digest makes short numbers out of bytes: equal bytes have equal digests.
 package digest
 
-import "mill/api"
+import (
+	"cmp"
+
+	"mill/api"
+)
 
 // Sum is the digest of the bytes of data (P3).
 func Sum(data string) api.Digest {
@@ -12,4 +16,9 @@ func Sum(data string) api.Digest {
 		b = (b * api.Prime) ^ c ^ (a >> 32)
 	}
 	return api.Digest{a, b}
+}
+
+// Compare puts digests in order, by their first numbers, then by the second ones: below 0, if a comes ahead of b, above 0, if behind.
+func Compare(a, b api.Digest) int {
+	return cmp.Or(cmp.Compare(a[0], b[0]), cmp.Compare(a[1], b[1]))
 }

@@ -50,3 +50,15 @@ func TestSumTellsTextsApart(t *testing.T) {
 		}
 	}
 }
+
+func TestCompare(t *testing.T) {
+	rising := []api.Digest{{0, 0}, {0, 1}, {0, 1<<64 - 1}, {1, 0}, {1, 1 << 63}, {1<<63 - 1, 5}, {1 << 63, 0}, {1 << 63, 4}, {1<<64 - 1, 0}, {1<<64 - 1, 1<<64 - 1}}
+	for i, a := range rising {
+		for j, b := range rising {
+			got := Compare(a, b)
+			if (got < 0) != (i < j) || (got > 0) != (i > j) {
+				t.Errorf("P7: Compare(%x, %x) = %d", a, b, got)
+			}
+		}
+	}
+}

@@ -150,11 +150,9 @@ func TestAnyBytes(t *testing.T) {
 	}
 }
 
-// Recover, Compact and Build answer nothing yet; they end all the same, at all strings, lists and numbers.
-func TestOtherCallsEnd(t *testing.T) {
+// Build answers nothing yet; it ends all the same, at all strings, lists and numbers.
+func TestBuildEnds(t *testing.T) {
 	for _, s := range []string{"", "R", "R\x01", "R\x02" + strings.Repeat("\xff", 500), "task b = rev a", "\x00\n"} {
-		mill.Recover(s)
-		mill.Compact(s)
 		for _, n := range []int{math.MinInt, -1, 0, 1, math.MaxInt} {
 			mill.Build(s, []api.File{{}, {Path: s, Data: s}}, s, api.Options{Workers: n, Tokens: n, Budget: n, Cancel: n, Crash: n, Keeps: []int{n}})
 			mill.Build(s, nil, s, api.Options{})

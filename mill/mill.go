@@ -5,6 +5,7 @@ import (
 	"mill/api"
 	"mill/digest"
 	"mill/plan"
+	"mill/record"
 )
 
 // Sum is the digest of bytes (P3).
@@ -26,10 +27,10 @@ func Weights(manifest string) ([]int, api.Errno) {
 }
 
 // Recover reads a log as far as it is whole (P6).
-func Recover(log string) ([]api.Record, int) { return nil, 0 }
+func Recover(log string) ([]api.Record, int) { return record.Read(log) }
 
 // Compact makes a log shorter (P7).
-func Compact(log string) string { return "" }
+func Compact(log string) string { return record.Compact(log) }
 
 // Build builds (P8 to P11).
 func Build(manifest string, files []api.File, log string, o api.Options) (api.Report, api.Errno) {
