@@ -150,12 +150,17 @@ func TestAnyBytes(t *testing.T) {
 	}
 }
 
-// Build answers nothing yet; it ends all the same, at all strings, lists and numbers.
+// Build ends at all strings, lists and numbers.
 func TestBuildEnds(t *testing.T) {
 	for _, s := range []string{"", "R", "R\x01", "R\x02" + strings.Repeat("\xff", 500), "task b = rev a", "\x00\n"} {
 		for _, n := range []int{math.MinInt, -1, 0, 1, math.MaxInt} {
 			mill.Build(s, []api.File{{}, {Path: s, Data: s}}, s, api.Options{Workers: n, Tokens: n, Budget: n, Cancel: n, Crash: n, Keeps: []int{n}})
 			mill.Build(s, nil, s, api.Options{})
+			o := with(1)
+			o.Crash, o.Keeps = max(n, api.Never), []int{max(n, 0)}
+			if _, e := mill.Build(threeTasks, list("a", "xyz"), s, o); e != api.OK {
+				t.Errorf("P8: with Crash %d: error %d", o.Crash, e)
+			}
 		}
 	}
 }

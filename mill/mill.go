@@ -3,6 +3,7 @@ package mill
 
 import (
 	"mill/api"
+	"mill/build"
 	"mill/digest"
 	"mill/plan"
 	"mill/record"
@@ -34,5 +35,5 @@ func Compact(log string) string { return record.Compact(log) }
 
 // Build builds (P8 to P11).
 func Build(manifest string, files []api.File, log string, o api.Options) (api.Report, api.Errno) {
-	return api.Report{}, api.OK
+	return build.Run(manifest, files, log, o)
 }

@@ -17,33 +17,42 @@ var (
 
 type refTask struct {
 	outputs, inputs []string
-	cost            int
+	action, pool    string
+	cost, jobs      int
 }
 
+// reference: the depths of pools, how often an output is made, and the tasks.
 type reference struct {
-	pools map[string]bool
+	pools map[string]int
 	made  map[string]int
 	tasks []refTask
 }
 
 func referenceCheck(manifest string) (int, []int, api.Errno) {
-	if len(manifest) > 2000 {
-		return 0, nil, api.ErrLong
+	r, n, e := referenceRead(manifest)
+	if e != api.OK {
+		return n, nil, e
 	}
-	r := reference{pools: map[string]bool{}, made: map[string]int{}}
+	return n, r.weights(r.waits()), e
+}
+
+func referenceRead(manifest string) (*reference, int, api.Errno) {
+	if len(manifest) > 2000 {
+		return nil, 0, api.ErrLong
+	}
+	r := &reference{pools: map[string]int{}, made: map[string]int{}}
 	lines := strings.Split(manifest, "\n")
 	for i, line := range lines {
 		if e := r.line(line); e != api.OK {
-			return i, nil, e
+			return nil, i, e
 		}
 	}
-	waits := r.waits()
-	for i, row := range waits.closure() {
+	for i, row := range r.waits().closure() {
 		if row[i] {
-			return len(lines), nil, api.ErrCycle
+			return nil, len(lines), api.ErrCycle
 		}
 	}
-	return len(r.tasks), r.weights(waits), api.OK
+	return r, len(r.tasks), api.OK
 }
 
 func (r *reference) line(line string) api.Errno {
@@ -51,10 +60,10 @@ func (r *reference) line(line string) api.Errno {
 		return api.OK
 	}
 	if m := poolLine.FindStringSubmatch(line); m != nil {
-		if r.pools[m[1]] {
+		if r.pools[m[1]] > 0 {
 			return api.ErrPool
 		}
-		if r.pools[m[1]] = true; len(r.pools) > 6 {
+		if r.pools[m[1]] = int(m[2][0] - '0'); len(r.pools) > 6 {
 			return api.ErrLong
 		}
 		return api.OK
@@ -73,14 +82,11 @@ func (r *reference) task(outputs []string, action string, inputs, options []stri
 		}
 		named[options[i]] = options[i+1]
 	}
-	cost := 1
-	if named["cost"] != "" {
-		cost = int(named["cost"][0] - '0')
-	}
+	number := func(option string) int { return int((named[option] + "1")[0] - '0') }
 	switch digits := "0123456789"; {
 	case len(r.tasks) == 24:
 		return api.ErrLong
-	case named["pool"] != "" && !r.pools[named["pool"]]:
+	case named["pool"] != "" && r.pools[named["pool"]] == 0:
 		return api.ErrPool
 	case len(outputs) > 9 || len(inputs) > 9 || !fitting.MatchString(digits[len(outputs):][:1]+" "+action+" "+digits[len(inputs):][:1]):
 		return api.ErrAction
@@ -93,7 +99,7 @@ func (r *reference) task(outputs []string, action string, inputs, options []stri
 			return api.ErrTwice
 		}
 	}
-	r.tasks = append(r.tasks, refTask{outputs, inputs, cost})
+	r.tasks = append(r.tasks, refTask{outputs, inputs, action, named["pool"], number("cost"), number("jobs")})
 	return api.OK
 }
 

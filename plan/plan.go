@@ -34,6 +34,11 @@ func Read(text string) (Plan, int, api.Errno) {
 	return Plan{Pools: r.pools, Tasks: r.tasks, Waits: waits}, len(r.tasks), api.OK
 }
 
+// Makes tells whether a path is an output of a task.
+func (p Plan) Makes(path string) bool {
+	return slices.ContainsFunc(p.Tasks, func(t Task) bool { return slices.Contains(t.Outputs, path) })
+}
+
 // reader: what the lines have said so far. makers has for each output the number of its task.
 type reader struct {
 	pools  []Pool

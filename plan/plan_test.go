@@ -68,6 +68,15 @@ func TestWaitsBackwardAndForward(t *testing.T) {
 	}
 }
 
+func TestMakes(t *testing.T) {
+	p, _, _ := Read(text("pool p 1", "task b c = half a", "task d = cat x | pool p"))
+	for path, want := range map[string]bool{"b": true, "c": true, "d": true, "a": false, "x": false, "p": false, "": false, "cat": false} {
+		if p.Makes(path) != want {
+			t.Errorf("P8: Makes(%q) is not %v", path, want)
+		}
+	}
+}
+
 func TestIsName(t *testing.T) {
 	for c := range 256 {
 		want := strings.ContainsRune("abcdefghijklmnopqrstuvwxyz0123456789._", rune(c))
