@@ -11,7 +11,7 @@ import (
 	"mill/work"
 )
 
-// Run builds, where power is not lost (P8 to P11).
+// Run builds (P8 to P12).
 func Run(manifest string, files []api.File, log string, o api.Options) (api.Report, api.Errno) {
 	p, _, e := plan.Read(manifest)
 	if e != api.OK {
@@ -20,27 +20,14 @@ func Run(manifest string, files []api.File, log string, o api.Options) (api.Repo
 	if e := refuse(p, files, o); e != api.OK {
 		return api.Report{}, e
 	}
-	if o.Crash != api.Never {
-		// What a loss of power leaves behind is not worked out yet.
-		return api.Report{}, api.OK
-	}
 	return runTogether(p, files, log, o), api.OK
 }
 
-// runTogether has workers and a journal beside it as long as the build runs; behind it none of them is left.
+// runTogether has workers and a journal beside it as long as the build runs; behind it none of them is left, also where power was lost.
 func runTogether(p plan.Plan, files []api.File, log string, o api.Options) api.Report {
 	var group sync.WaitGroup
-	b := &build{
-		options: o,
-		tasks:   newTasks(p),
-		pools:   p.Pools,
-		store:   newStore(files),
-		busy:    make([]bool, o.Workers),
-		crew:    work.Start(o.Workers, &group),
-		journal: disk.Start(files, log, &group),
-	}
-	b.readLog(log)
-	b.runTicks()
+	b := newBuild(p, files, log, o, &group)
+	b.run(log)
 	b.crew.End()
 	outcome := b.journal.End()
 	group.Wait()
@@ -61,19 +48,38 @@ type build struct {
 	events     []api.Event
 }
 
-// readLog remembers what the log tells, and leaves no torn bytes that a record would be laid behind.
-func (b *build) readLog(log string) {
+func newBuild(p plan.Plan, files []api.File, log string, o api.Options, group *sync.WaitGroup) *build {
+	return &build{
+		options: o,
+		tasks:   newTasks(p),
+		pools:   p.Pools,
+		store:   newStore(files),
+		busy:    make([]bool, o.Workers),
+		crew:    work.Start(o.Workers, group),
+		journal: disk.Start(files, log, disk.Loss{Ahead: o.Crash, Keeps: o.Keeps}, group),
+	}
+}
+
+// run goes on until the build has ended or power is lost.
+func (b *build) run(log string) {
+	if b.readLog(log) {
+		b.runTicks()
+	}
+}
+
+// readLog remembers what the log tells, and leaves no torn bytes that a record would be laid behind. It tells false if power was lost.
+func (b *build) readLog(log string) bool {
 	records, whole := record.Read(log)
 	b.remembered = record.Latest(records)
-	if whole < len(log) {
-		b.journal.Mend(log[:whole])
-	}
+	return whole == len(log) || b.journal.Mend(log[:whole])
 }
 
 // runTicks goes from each tick at which a task ends to the next one.
 func (b *build) runTicks() {
 	for more := true; more; {
-		b.endTasks()
+		if !b.endTasks() {
+			return
+		}
 		b.settleTasks()
 		if !b.isStopped() {
 			b.beginTasks()
@@ -111,13 +117,17 @@ func (b *build) failures() int {
 	return n
 }
 
+// report tells what came of the build. Where power was lost nobody knows but what the disk still has.
 func (b *build) report(o disk.Outcome) api.Report {
+	if o.Lost {
+		return api.Report{Files: o.Files, Log: o.Log, Ops: o.Operations}
+	}
 	states := make([]int, len(b.tasks))
 	for i, t := range b.tasks {
 		states[i] = t.state
 	}
 	return api.Report{
-		Files:  b.store.sorted(),
+		Files:  o.Files,
 		Log:    o.Log,
 		State:  states,
 		Events: b.events,

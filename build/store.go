@@ -1,9 +1,6 @@
 package build
 
 import (
-	"maps"
-	"slices"
-
 	"mill/api"
 	"mill/digest"
 	"mill/plan"
@@ -46,13 +43,4 @@ func (s store) has(paths []string, digests []api.Digest) bool {
 		}
 	}
 	return true
-}
-
-// sorted lists the files in rising order of their paths.
-func (s store) sorted() []api.File {
-	files := make([]api.File, 0, len(s))
-	for _, path := range slices.Sorted(maps.Keys(s)) {
-		files = append(files, s[path])
-	}
-	return files
 }

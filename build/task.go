@@ -37,38 +37,41 @@ func newTasks(p plan.Plan) []task {
 	return tasks
 }
 
-// endTasks ends those that end at this tick.
-func (b *build) endTasks() {
+// endTasks ends those that end at this tick. It tells false if power was lost over one of them.
+func (b *build) endTasks() bool {
 	for number, t := range b.tasks {
-		if t.phase == running && t.ends == b.tick {
-			b.end(number)
+		if t.phase == running && t.ends == b.tick && !b.end(number) {
+			return false
 		}
 	}
+	return true
 }
 
-func (b *build) end(number int) {
+func (b *build) end(number int) bool {
 	t := b.tasks[number]
 	answer := b.crew.Take(t.worker)
 	b.busy[t.worker] = false
 	if answer.Failed {
 		b.stand(number, api.Failed)
 		b.tell(api.Broke, number, t.worker)
-		return
+		return true
 	}
 	b.stand(number, api.Done)
 	b.tell(api.Ended, number, t.worker)
-	b.lay(t, answer.Made)
+	return b.lay(t, answer.Made)
 }
 
 // lay puts what a task makes into the store and on the disk: its record comes last, so that none tells of what is not there.
-func (b *build) lay(t task, made []string) {
+func (b *build) lay(t task, made []string) bool {
 	r := api.Record{Print: t.fingerprint, Outs: make([]api.Digest, len(made))}
 	for i, path := range t.Outputs {
 		b.store.lay(path, made[i])
-		b.journal.Lay(path, made[i])
+		if !b.journal.Lay(path, made[i]) {
+			return false
+		}
 		r.Outs[i] = digest.Sum(made[i])
 	}
-	b.journal.Note(record.Bytes(r))
+	return b.journal.Note(record.Bytes(r))
 }
 
 // settleTasks goes over all tasks until nothing comes of it any more.

@@ -25,15 +25,17 @@ type file struct {
 	safe int
 }
 
-// disk: files by their names, and how many operations were done.
+// disk: files by their names, how many operations were done, and whether power was lost.
 type disk struct {
 	files map[string]file
+	loss  Loss
 	done  int
+	lost  bool
 }
 
 // newDisk has the files of a build and its log; all of their bytes are safe.
-func newDisk(files []api.File, log string) *disk {
-	d := &disk{files: make(map[string]file, len(files)+1)}
+func newDisk(files []api.File, log string, loss Loss) *disk {
+	d := &disk{files: make(map[string]file, len(files)+1), loss: loss}
 	for _, f := range files {
 		d.files[f.Path] = safeFile(f.Data)
 	}
@@ -45,8 +47,18 @@ func safeFile(data string) file {
 	return file{data: []byte(data), safe: len(data)}
 }
 
-func (d *disk) do(o operation) {
+// do does the next operation, and tells whether it could: not if power is lost ahead of it, and no later one either.
+func (d *disk) do(o operation) bool {
+	if d.done == d.loss.Ahead {
+		d.lost = true
+		return false
+	}
+	d.change(o)
 	d.done++
+	return true
+}
+
+func (d *disk) change(o operation) {
 	f := d.files[o.name]
 	switch o.kind {
 	case write:

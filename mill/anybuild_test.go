@@ -40,7 +40,7 @@ func compareBuild(t *testing.T, p project) (api.Report, api.Errno) {
 		t.Fatalf("P8: %v:\nerror %d, want %d", p, e, errno)
 	}
 	if !sameReport(got, want) {
-		t.Fatalf("P11: %v:\n%s, want\n%s", p, show(got), show(want))
+		t.Fatalf("P11, P12: %v:\n%s, want\n%s", p, show(got), show(want))
 	}
 	return got, e
 }
@@ -94,7 +94,25 @@ func (k maker) anyOptions() api.Options {
 	if k.IntN(3) == 0 {
 		o.Cancel = k.IntN(25)
 	}
+	if k.IntN(3) == 0 {
+		o.Crash = k.IntN(20 + k.IntN(100))
+	}
+	o.Keeps = k.keeps()
 	return o
+}
+
+// keeps are now and then none, or more than there are files.
+func (k maker) keeps() []int {
+	list := make([]int, max(0, k.IntN(12)-3)*(1+k.IntN(8)))
+	for i := range list {
+		list[i] = []int{0, 1, 38, 54, math.MaxInt, k.IntN(60), k.IntN(60)}[k.IntN(7)]
+	}
+	return list
+}
+
+// isLost tells whether power was lost in a build that has something to do.
+func isLost(p project, r api.Report) bool {
+	return p.options.Crash != api.Never && len(r.State) == 0 && p.manifest != ""
 }
 
 // project makes one of what was built before, too: with other files, with part of the log, or with none.
@@ -138,19 +156,27 @@ func (k maker) behind(p project) project {
 func TestManyBuilds(t *testing.T) {
 	k := newMaker()
 	var states [5]int
-	for range 1500 {
+	lost, torn := 0, 0
+	for range 2000 {
 		p := k.project()
 		r, e := compareBuild(t, p)
 		if e != api.OK {
 			t.Fatalf("this test makes what may not be built: %v: %d", p, e)
+		}
+		if isLost(p, r) {
+			lost++
+			if _, whole := mill.Recover(r.Log); whole < len(r.Log) {
+				torn++
+			}
+			continue
 		}
 		followRules(t, p, r)
 		for _, s := range r.State {
 			states[s]++
 		}
 	}
-	if slices.Min(states[:]) < 200 {
-		t.Errorf("of the states some are seldom here: %v", states)
+	if slices.Min(states[:]) < 200 || lost < 200 || torn < 15 {
+		t.Errorf("some are seldom here: %v, %d builds without power, %d torn logs", states, lost, torn)
 	}
 }
 
@@ -171,7 +197,10 @@ func TestManyWrongBuilds(t *testing.T) {
 		}
 		if k.IntN(3) == 0 {
 			o := &p.options
-			*[]*int{&o.Workers, &o.Tokens, &o.Budget, &o.Cancel}[k.IntN(4)] = []int{-2, -1, 0, 9, 10, math.MaxInt}[k.IntN(6)]
+			*[]*int{&o.Workers, &o.Tokens, &o.Budget, &o.Cancel, &o.Crash}[k.IntN(5)] = []int{-2, -1, 0, 9, 10, math.MaxInt}[k.IntN(6)]
+		}
+		if k.IntN(12) == 0 {
+			p.options.Keeps = append(p.options.Keeps, -1-k.IntN(2)*(math.MaxInt-3))
 		}
 		_, e := compareBuild(t, p)
 		seen[e]++
@@ -492,10 +521,13 @@ func TestReportsAreNewMemory(t *testing.T) {
 		want, _ := referenceBuild(p.manifest, slices.Clone(p.files), p.log, p.options)
 		one, _ := p.build()
 		two, _ := p.build()
-		given := p.files
-		p.files = slices.Clone(p.files)
+		given, keeps := p.files, p.options.Keeps
+		p.files, p.options.Keeps = slices.Clone(p.files), slices.Clone(keeps)
 		for i := range given {
 			given[i] = api.File{Path: "gone"}
+		}
+		for i := range keeps {
+			keeps[i] = 77
 		}
 		if !sameReport(one, want) {
 			t.Fatalf("P2: %v: it shows what is written into the files that were handed in: %s", p, show(one))
@@ -545,15 +577,22 @@ func FuzzBuild(f *testing.F) {
 		for _, file := range p.files {
 			files += file.Path + "=" + file.Data + ";"
 		}
-		f.Add(p.manifest, files, p.log, p.options.Workers, p.options.Tokens, p.options.Budget, p.options.Cancel)
+		keeps := make([]byte, len(p.options.Keeps))
+		for i, n := range p.options.Keeps {
+			keeps[i] = byte(min(n, 200))
+		}
+		f.Add(p.manifest, files, p.log, p.options.Workers, p.options.Tokens, p.options.Budget, p.options.Cancel, p.options.Crash, keeps)
 	}
-	f.Fuzz(func(t *testing.T, manifest, files, log string, workers, tokens, budget, cancel int) {
-		p := project{manifest: manifest, log: log, options: api.Options{Workers: workers, Tokens: tokens, Budget: budget, Cancel: cancel, Crash: api.Never}}
+	f.Fuzz(func(t *testing.T, manifest, files, log string, workers, tokens, budget, cancel, crash int, keeps []byte) {
+		p := project{manifest: manifest, log: log, options: api.Options{Workers: workers, Tokens: tokens, Budget: budget, Cancel: cancel, Crash: crash}}
+		for _, n := range keeps {
+			p.options.Keeps = append(p.options.Keeps, int(n))
+		}
 		for line := range strings.SplitSeq(strings.TrimSuffix(files, ";"), ";") {
 			path, data, _ := strings.Cut(line, "=")
 			p.files = append(p.files, api.File{Path: path, Data: data})
 		}
-		if r, e := compareBuild(t, p); e == api.OK {
+		if r, e := compareBuild(t, p); e == api.OK && !isLost(p, r) {
 			followRules(t, p, r)
 		}
 	})

@@ -33,7 +33,7 @@ func Recover(log string) ([]api.Record, int) { return record.Read(log) }
 // Compact makes a log shorter (P7).
 func Compact(log string) string { return record.Compact(log) }
 
-// Build builds (P8 to P11).
+// Build builds (P8 to P12).
 func Build(manifest string, files []api.File, log string, o api.Options) (api.Report, api.Errno) {
 	return build.Run(manifest, files, log, o)
 }

@@ -11,7 +11,7 @@ import (
 	"mill/mill"
 )
 
-// A second reading of P8 to P11, as unlike the program as can be: one goroutine alone, each tick is gone through, and all runs that ever were stay in a list: what holds at a tick is told from it. The store is a list in order; of the disk there are the log and a number.
+// A second reading of P8 to P12, as unlike the program as can be: one goroutine alone, each tick is gone through, and all runs that ever were stay in a list: what holds at a tick is told from it. The store is a list in order; of the disk there are the log and a number. A build runs to its end, whenever power is lost; what was left ahead of that operation is set aside.
 
 var pathName = regexp.MustCompile(`\A[a-z0-9._]{1,16}\z`)
 
@@ -30,6 +30,7 @@ type refBuild struct {
 	ready   [24]bool
 	runs    []refRun
 	out     api.Report
+	left    *api.Report // nil, if power was not lost
 }
 
 func referenceBuild(manifest string, files []api.File, log string, o api.Options) (api.Report, api.Errno) {
@@ -48,16 +49,36 @@ func referenceBuild(manifest string, files []api.File, log string, o api.Options
 	}
 	var pieces []string
 	b.records, pieces = referenceRecover(log)
-	if b.out.Log = strings.Join(pieces, ""); b.out.Log != log {
-		b.out.Ops = 3
+	if whole := strings.Join(pieces, ""); whole != log {
+		b.out.Log = log
+		b.ahead(3, "")
 	}
+	b.out.Log = strings.Join(pieces, "")
 	for tick := range 24*9 + 1 {
 		if ended := b.endAt(tick); ended || tick == 0 {
 			b.settle(tick)
 			b.beginAt(tick)
 		}
 	}
+	if b.left != nil {
+		return *b.left, api.OK
+	}
 	return b.out, api.OK
+}
+
+// ahead tells that so many operations come, ahead of which the store and the log are as they are now; rest are bytes of the log that are not safe. There is no file but those of the store when there are such bytes: so many have lower numbers than the log.
+func (b *refBuild) ahead(operations int, rest string) {
+	for range operations {
+		if b.out.Ops == b.options.Crash {
+			if len(b.options.Keeps) == 0 {
+				rest = ""
+			} else if keeps := b.options.Keeps[len(b.out.Files)%len(b.options.Keeps)]; keeps < len(rest) {
+				rest = rest[:keeps]
+			}
+			b.left = &api.Report{Files: slices.Clone(b.out.Files), Log: b.out.Log + rest, Ops: b.out.Ops}
+		}
+		b.out.Ops++
+	}
 }
 
 func (r *reference) refuse(files []api.File, o api.Options) api.Errno {
@@ -162,11 +183,13 @@ func (b *refBuild) endAt(tick int) (ended bool) {
 			b.note(tick, api.Ended, number, run.worker, api.Done)
 			var outs []api.Digest
 			for i, path := range t.outputs {
+				b.ahead(3, "")
 				b.put(path, run.made[i])
 				outs = append(outs, mill.Sum(run.made[i]))
 			}
+			b.ahead(1, "")
+			b.ahead(1, made(run.print, outs...))
 			b.out.Log += made(run.print, outs...)
-			b.out.Ops += 3*len(outs) + 2
 		}
 	}
 	return ended

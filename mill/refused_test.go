@@ -40,9 +40,9 @@ func wrongOptions() (all []api.Options) {
 func rightOptions() (all []api.Options) {
 	for _, o := range []api.Options{with(1), with(8)} {
 		few := o
-		few.Tokens, few.Budget, few.Cancel = 1, 1, 0
+		few.Tokens, few.Budget, few.Cancel, few.Crash = 1, 1, 0, 0
 		many := o
-		many.Tokens, many.Budget, many.Cancel, many.Keeps = 9, math.MaxInt, math.MaxInt, []int{0, 1, math.MaxInt}
+		many.Tokens, many.Budget, many.Cancel, many.Crash, many.Keeps = 9, math.MaxInt, math.MaxInt, math.MaxInt, []int{0, 1, math.MaxInt}
 		none := o
 		none.Keeps = []int{}
 		all = append(all, o, few, many, none)
